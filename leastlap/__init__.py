@@ -1,0 +1,1 @@
+"""Leastlap: arrays laid over one another as far as the loops allow."""
