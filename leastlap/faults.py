@@ -16,11 +16,12 @@ def first_outside(sizes, loops):
 def lines_ahead(place, name, writes):
     """The lines in which an array is written, with their lags, as far as they can be ahead of a place.
 
-    A lag is how many iterations the write has to be behind at the least; None, if all of its loop is ahead.
+    A lag is how many iterations the write has to be behind at the least; None, if all of its loop is ahead. A written
+    place is among those ahead of itself, but as no statement writes an element twice, it never meets itself.
     """
     found = []
     for other, written, line in writes:
-        if written == name and other != place and other[0] <= place[0]:
+        if written == name and other[0] <= place[0]:
             found.append((line, lag_to(place, other)))
     return found
 
@@ -66,7 +67,7 @@ def first_unwritten(sizes, loops, outputs):
 def first_left_out(sizes, names, writes, end):
     """The first element of these arrays that is not written ahead of the end, the number behind the last loop's."""
     for name in names:
-        index = first_missed((1, 0, sizes[name]), lines_ahead((end, 0), name, writes))
+        index = first_missed((1, 0, sizes[name]), lines_ahead((end,), name, writes))
         if index is not None:
             return name, index
     return None

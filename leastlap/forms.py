@@ -54,21 +54,16 @@ def is_statement(thing, count, names):
 
 def is_access(thing, names):
     """Whether a value is the name of an array, with the c and the d of an index."""
-    if not (is_row(thing, 3, 3) and is_known(thing[0], names)):
+    if not (is_row(thing, 3, 3) and thing[0] in names):
         return False
     c, d = thing[1:]
     return is_between(c, -GREATEST_STEP, GREATEST_STEP) and is_between(d, -GREATEST_SHIFT, GREATEST_SHIFT)
-
-
-def is_known(thing, names):
-    """Whether a value is one of the names."""
-    return isinstance(thing, str) and thing in names
 
 
 def are_outputs(thing, names):
     """Whether a value is an ascending tuple of some of the names."""
     if not isinstance(thing, tuple):
         return False
-    if not all([is_known(part, names) for part in thing]):
+    if not all([part in names for part in thing]):
         return False
     return is_ascending(thing)

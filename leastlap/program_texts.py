@@ -51,22 +51,15 @@ def step_text(c):
 def read_program(text):
     """The arrays, loops and outputs that a string tells; raises InvalidText() if it tells none.
 
-    They need not be those of a program, and a string that is not written just so is taken, too: whoever calls this
-    has to compare it with the text of what it tells.
+    They need not be those of a program, and many strings that are not written just so are taken, too: whoever calls
+    this has to compare the string with the text of what it tells.
     """
     lines = text.split("\n")
-    arrays = [read_array(part) for part in rest_of(lines[0], "arrays ").split(", ")]
+    arrays = [read_array(part) for part in lines[0].removeprefix("arrays ").split(", ")]
     outputs = []
     if lines[-1].startswith("outputs "):
-        outputs = rest_of(lines.pop(), "outputs ").split(" ")
+        outputs = lines.pop().removeprefix("outputs ").split(" ")
     return tuple(arrays), read_loops(lines[1:]), tuple(outputs)
-
-
-def rest_of(line, start):
-    """What stands behind the start of a line."""
-    if not line.startswith(start):
-        raise InvalidText()
-    return line.removeprefix(start)
 
 
 def read_array(part):
@@ -80,7 +73,7 @@ def read_loops(lines):
     loops = []
     for line in lines:
         if line.startswith("loop "):
-            loops.append((read_number(rest_of(line, "loop ")), []))
+            loops.append((read_number(line.removeprefix("loop ")), []))
         elif loops:
             loops[-1][1].append(read_statement(line))
         else:
@@ -90,19 +83,15 @@ def read_loops(lines):
 
 def read_statement(line):
     """The statement that a line tells."""
-    target, *others = line.split(" ")
-    if not others or others[0] != "=":
-        raise InvalidText()
-    name, c, d = read_access(target)
-    return name, c, d, tuple([read_access(word) for word in others[1:]])
+    words = line.split(" ")
+    name, c, d = read_access(words[0])
+    return name, c, d, tuple([read_access(word) for word in words[2:]])
 
 
 def read_access(word):
     """The name, and the c and the d of an index."""
     name, _, rest = word.partition("[")
-    if not rest.endswith("]"):
-        raise InvalidText()
-    c, d = read_index(rest[:-1])
+    c, d = read_index(rest.removesuffix("]"))
     return name, c, d
 
 

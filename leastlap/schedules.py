@@ -11,9 +11,10 @@ LANES = (1, 2, 4)
 
 def is_walk(thing):
     """Whether a value is a direction with a number of lanes."""
-    if not (is_row(thing, 2, 2) and isinstance(thing[0], str) and is_whole(thing[1])):
+    if not is_row(thing, 2, 2):
         return False
-    return thing[0] in DIRECTIONS and thing[1] in LANES
+    direction, lanes = thing
+    return direction in DIRECTIONS and is_whole(lanes) and lanes in LANES
 
 
 def read_walk(line):

@@ -281,6 +281,29 @@ class SpotsTest(unittest.TestCase):
         self.assertGreater(min(late[True], late[False]), 100, late)
         self.assertLess(slowest, 0.5)
 
+    def test_interleaved_writes(self):
+        """An array is written by two or three statements in turn, and read with another step, at all lengths."""
+        rng = random.Random(47)
+        seen, late = Counter(), Counter()
+        for _ in range(1500):
+            wide, c, count = rng.choice((2, 3)), rng.choice((-1, 0, 1, 2, 3)), rng.randint(1, MOST // 6)
+            ahead = rng.choice((1, 5, count // 3, count, rng.randint(1, MOST // 3)))
+            last = ahead + wide * count - 1
+            shift = rng.choice((0, 1, ahead // 2, ahead - 1, ahead, count, rng.randint(0, last)))
+            count = max(1, min(count, (last - shift) // c + 1 if c > 0 else shift if c < 0 else count) - rng.randint(0, 5))
+            writers = [("X", wide, ahead + at, ()) for at in range(wide)]
+            rng.shuffle(writers)
+            writers.insert(rng.randint(0, wide), ("Y", 1, 0, (("X", c, shift),)))
+            loops = ((ahead, (("X", 1, 0, ()),)), (count, tuple(writers)))
+            parts = ((("X", last + 1), ("Y", MOST)), loops, ())
+            told = fault_of(Program, *parts)
+            seen[told and told[0]] += 1
+            self.hold_faults(rng, *parts, told)
+            if told is None:
+                for _ in range(2):
+                    late[self.hold_late(rng, Program(*parts), random_walks(rng, loops))] += 1
+        self.assertGreater(min(seen[None], seen["Unwritten"], late[True], late[False]), 100, (seen, late))
+
 
 if __name__ == "__main__":
     unittest.main()

@@ -4,7 +4,7 @@ import copy
 import unittest
 
 from leastlap.errors import NoPlacement
-from leastlap.layouts import high_of, low_of
+from leastlap.layouts import high_of, low_of, read_layout
 from leastlap.placements import Placement
 from leastlap.programs import Program
 
@@ -83,6 +83,12 @@ class LayoutsTest(unittest.TestCase):
             self.assertEqual(cells, want)
             self.assertEqual(placement.size, max(want) + 1)
             self.assertEqual([low_of(layout, 5), high_of(layout, 5)], [min(want) - 5, max(want) - 5])
+
+    def test_layouts_that_are_read(self):
+        for layout, text in (("up", "up"), ("down", "down"), (("ring", 1), "ring 1"), (("ring", 8), "ring 8")):
+            self.assertEqual(read_layout(text), layout)
+        for text in ("", "Up", "up ", "ring", "ring ", "ring 0", "ring 9", "ring 01", "ring  1", "ring 1 ", "ring up", "3"):
+            self.assertEqual(fault_of(read_layout, text), ("InvalidText",))
 
     def test_the_lowest_first_cell(self):
         for size in (1, 2, 5, 8, 9, MOST):

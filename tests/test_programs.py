@@ -69,7 +69,7 @@ class InterfaceTest(unittest.TestCase):
         self.assertTrue(Program(arrays, loops, outputs) == ROW)
         self.assertFalse(Program(arrays, loops, outputs) != ROW)
         for other in (Program(arrays, loops), Program((("A", 13),) + arrays[1:], loops, outputs),
-                      Program(arrays, ((9, (TAPS,)), (9, TWICE)), ())):
+                      Program(arrays, ((10, (TAPS,)), (10, TWICE[::-1])), outputs)):
             self.assertTrue(other != ROW)
             self.assertFalse(other == ROW)
         for thing in JUNK[:-3] + (PLAIN, TIGHT, ROW_PARTS, ROW.text):
@@ -139,6 +139,10 @@ class LimitsTest(unittest.TestCase):
         self.assertEqual(len(Program(arrays[:1], loops).arrays), 1)
         self.no("arrays", arrays, loops)
         self.no("arrays", (), loops)
+
+    def test_letters_of_other_alphabets(self):
+        for name in ("\u00c9", "\u03b1", "A\u0661"):
+            self.no("arrays", ((name, 1),), loop_of((name, 1, 0, ())))
 
     def test_names(self):
         for name in ("A", "a", "Zz", "abcdefgh", "ABCDEFGH", "loop", "arrays", "outputs", "i", "ring"):

@@ -36,7 +36,8 @@ class NumbersTest(unittest.TestCase):
         self.assertEqual(number_text(read_number(text)), text)
 
     def test_no_numbers(self):
-        for text in ("", "-", "-0", "00", "01", "-01", "+1", " 1", "1 ", "1_0", "1.0", "1e3", "--1", "a", "1-", "\n1"):
+        for text in ("", "-", "-0", "00", "01", "-01", "+1", " 1", "1 ", "1_0", "1.0", "1e3", "--1", "a", "1-", "\n1",
+                     "\u0661", "\u00b2"):
             self.assertEqual(fault_of(read_number, text), NOT_A_TEXT, text)
 
 

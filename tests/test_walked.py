@@ -122,6 +122,29 @@ class WalkedSchedulesTest(unittest.TestCase):
                     seen[self.hold(program, parts, (("forward", 1), walk))] += 1
         self.assertGreater(min(seen[True], seen[False]), 500)
 
+    def test_interleaved_writes_with_all_walks(self):
+        """An array is written by two or three statements in turn, and is read with other steps than it is written."""
+        rng = random.Random(46)
+        seen = Counter()
+        for wide, sign, c, ahead in product((2, 3), (1, -1), range(-3, 4), (1, 4, 7)):
+            for _ in range(12):
+                count, shift = rng.randint(1, 11), rng.randint(0, 12)
+                last = ahead + wide * count - 1
+                turned = (lambda k, d: (k, d)) if sign > 0 else (lambda k, d: (-k, last - d))
+                writers = [("X",) + turned(wide, ahead + at) + ((),) for at in range(wide)]
+                rng.shuffle(writers)
+                reader = ("Y", 1, 0, (("X",) + turned(c, shift),))
+                writers.insert(rng.randint(0, wide), reader)
+                start = (ahead, (("X",) + turned(1, 0) + ((),),))
+                parts = ((("X", last + 1), ("Y", count)), (start, (count, tuple(writers))), ("X",))
+                if walked_fault(*parts):
+                    continue
+                for walk in product(("forward", "backward"), (1, 2, 4)):
+                    late = self.hold(Program(*parts), parts, (("forward", 1), walk))
+                    seen[late, wide, c] += 1
+        for wide, c, late in product((2, 3), (0, 1, 2, 3), (True, False)):
+            self.assertGreater(seen[late, wide, c], 5, (late, wide, c))
+
     def test_one_loop_to_four(self):
         rng = random.Random(44)
         seen = Counter()
