@@ -1,7 +1,7 @@
 """What a program must not do in the sequential run; the first such case of each kind, or None."""
 
 from leastlap.accesses import all_accesses, all_reads, all_writes
-from leastlap.lines import first_beyond, first_met, first_missed
+from leastlap.lines import UNBOUND, first_beyond, first_missed, first_within
 
 
 def first_outside(sizes, loops):
@@ -14,23 +14,23 @@ def first_outside(sizes, loops):
 
 
 def lines_ahead(place, name, writes):
-    """The lines in which an array is written, with their lags, as far as they can be ahead of a place.
+    """The lines in which an array is written, as far as they can be ahead of a place, each with the bound for it.
 
-    A lag is how many iterations the write has to be behind at the least; None, if all of its loop is ahead. A written
-    place is among those ahead of itself, but as no statement writes an element twice, it never meets itself.
+    A place that writes is among those ahead of itself, but as no statement writes an element twice, it never meets
+    itself.
     """
     found = []
     for other, written, line in writes:
         if written == name and other[0] <= place[0]:
-            found.append((line, lag_to(place, other)))
+            found.append((line, bound_of(place, other)))
     return found
 
 
-def lag_to(place, other):
-    """How many iterations a write at the other place has to be behind a place, so as to be ahead of it in the run."""
+def bound_of(place, other):
+    """The bound on an iteration of a place and one of a write, with which the write is ahead in the sequential run."""
     if other[0] < place[0]:
-        return None
-    return 0 if other[1] < place[1] else 1
+        return UNBOUND
+    return (1, 0) if other[1] < place[1] else (1, 1)
 
 
 def first_twice(loops):
@@ -38,8 +38,8 @@ def first_twice(loops):
     writes = all_writes(loops)
     found = []
     for place, name, line in writes:
-        for other, lag in lines_ahead(place, name, writes):
-            i = first_met(line, other, lag)
+        for other, bound in lines_ahead(place, name, writes):
+            i = first_within(line, other, bound)
             if i is not None:
                 found.append((place[0], i, place))
     if not found:

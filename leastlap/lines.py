@@ -1,10 +1,14 @@
 """Lines: the indices c i + d for each i from 0 to count - 1, as triples (c, d, count).
 
-All that is asked of them is answered by sums and quotients, so that the lengths do not matter.
+All that is asked of them is answered by sums and quotients, so that the lengths do not matter. A bound (sign, least)
+on an iteration i of one line and j of another one tells that sign (i - j) is at least the second number; with (0, 0) it
+tells nothing.
 """
 
-# Every c but 0 divides it: within one residue of i modulo it, whether another line meets c i + d hangs on bounds alone.
-ROUND = 6
+# Each c but 0 and each number of lanes divides it. So within one residue of i modulo it, only inequalities tell in
+# which i another line has the index c i + d.
+ROUND = 12
+UNBOUND = (0, 0)
 
 
 def iteration_at(line, index):
@@ -25,12 +29,18 @@ def first_beyond(line, size):
     return first if first < count else None
 
 
-def interval(low, high, bounds):
-    """The least and the greatest i from low to high with slope i + offset >= 0 for all bounds.
+def turned(line):
+    """The line with its iterations in the opposite order."""
+    c, d, count = line
+    return -c, d + c * (count - 1), count
+
+
+def interval(low, high, rows):
+    """The least and the greatest i from low to high with slope i + offset >= 0 for all rows (slope, offset).
 
     If there is no such i, the least one is greater than the greatest one.
     """
-    for slope, offset in bounds:
+    for slope, offset in rows:
         if slope > 0:
             low = max(low, -(offset // slope))
         elif slope < 0:
@@ -40,9 +50,9 @@ def interval(low, high, bounds):
     return low, high
 
 
-def first_from(low, residue, modulus):
-    """The least number from low on that has the residue."""
-    return low + (residue - low) % modulus
+def first_from(low, residue):
+    """The least number from low on that has the residue modulo ROUND."""
+    return low + (residue - low) % ROUND
 
 
 def crossing(line, other):
@@ -54,34 +64,47 @@ def crossing(line, other):
     return c, d - e, k
 
 
-def meeting(line, other, lag, residue):
-    """The least and the greatest iteration in which the index of a line is one of the other line.
+def meeting(line, other, bound, residue):
+    """The least and the greatest iteration of a line in which the other one, its c not 0, has its index within a bound.
 
-    All iterations between them that have the residue modulo ROUND are meant. The other line has to have the index in
-    an iteration that is less by lag or more; with None, in any one.
+    Only iterations with the residue modulo ROUND are meant, but all of these between the two.
     """
     step, gap, wide = crossing(line, other)
     if (step * residue + gap) % wide != 0:
         return 0, -1
-    bounds = [(step, gap), (-step, wide * (other[2] - 1) - gap)]
-    if lag is not None:
-        bounds.append((wide - step, -gap - wide * lag))
-    return interval(0, line[2] - 1, bounds)
+    sign, least = bound
+    rows = [(step, gap), (-step, wide * (other[2] - 1) - gap), (sign * (wide - step), -sign * gap - wide * least)]
+    return interval(0, line[2] - 1, rows)
 
 
-def first_met(line, other, lag):
-    """The first iteration in which the index of a line is one of the other line, as in meeting, or None."""
+def first_met(line, other, bounds):
+    """The first iteration as in meeting, with a bound for each residue, or None."""
     found = []
-    for residue in range(ROUND):
-        low, high = meeting(line, other, lag, residue)
-        first = first_from(low, residue, ROUND)
+    for residue, bound in enumerate(bounds):
+        low, high = meeting(line, other, bound, residue)
+        first = first_from(low, residue)
         if first <= high:
             found.append(first)
     return min(found, default=None)
 
 
+def first_within(line, other, bound):
+    """The first iteration of a line in which the other one has its index within a bound, or None."""
+    return first_met(line, other, [bound] * ROUND)
+
+
+def first_early(line, other, lanes, strict):
+    """The first iteration of a line whose group is ahead of the one in which the other line has its index, or None.
+
+    The iterations of both lines are in groups of lanes; if not strict, it may also be the same group.
+    """
+    # The group begins residue % lanes ahead of i, and j has to be there or behind, or even in a later one.
+    further = lanes if strict else 0
+    return first_met(line, other, [(-1, further - residue % lanes) for residue in range(ROUND)])
+
+
 def first_missed(line, others):
-    """The first iteration in which the index of a line is none of the others, pairs of a line and a lag, or None."""
+    """The first iteration of a line in which none of the others, each with its bound, has its index, or None."""
     missed = [first_gap(line, others, residue) for residue in range(ROUND)]
     return min([i for i in missed if i < line[2]], default=None)
 
@@ -89,37 +112,9 @@ def first_missed(line, others):
 def first_gap(line, others, residue):
     """As first_missed, of the iterations with the residue modulo ROUND; if there is none, one from the count on."""
     i = residue
-    for low, high in sorted([meeting(line, other, lag, residue) for other, lag in others]):
+    for low, high in sorted([meeting(line, other, bound, residue) for other, bound in others]):
         if low > i:
             return i
         if high >= i:
-            i = first_from(high + 1, residue, ROUND)
+            i = first_from(high + 1, residue)
     return i
-
-
-def turned(line):
-    """The line with its iterations in the opposite order."""
-    c, d, count = line
-    return -c, d + c * (count - 1), count
-
-
-def first_early(line, other, lanes, strict):
-    """The first iteration of a line ahead of the one in which the other line, its c not 0, has the same index, or None.
-
-    The iterations of both are in groups of lanes, and one is ahead of another one if its group is; if not strict,
-    also if they are in one group.
-    """
-    step, gap, wide = crossing(line, other)
-    modulus = wide * lanes
-    found = []
-    for residue in range(modulus):
-        if (step * residue + gap) % wide == 0:
-            # With one residue of i modulo wide * lanes, both i and j keep their numbers within their groups.
-            within = (step * residue + gap) // wide % lanes
-            slack = residue % lanes - within - (lanes if strict else 0)
-            bounds = [(step, gap), (-step, wide * (other[2] - 1) - gap), (step - wide, gap + wide * slack)]
-            low, high = interval(0, line[2] - 1, bounds)
-            first = first_from(low, residue, modulus)
-            if first <= high:
-                found.append(first)
-    return min(found, default=None)
