@@ -50,9 +50,9 @@ def interval(low, high, rows):
     return low, high
 
 
-def first_from(low, residue):
-    """The least number from low on that has the residue modulo ROUND."""
-    return low + (residue - low) % ROUND
+def first_from(low, residue, modulus=ROUND):
+    """The least number from low on that has a residue."""
+    return low + (residue - low) % modulus
 
 
 def crossing(line, other):

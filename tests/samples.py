@@ -26,6 +26,11 @@ JUNK = (None, True, False, -1, 10 ** 40 - 1, 1 - 10 ** 40, "", "a b", "\n", "ABC
         ("A",), ("A", 1), [("A", 1)], ((("A", 1),),), "x" * 4000, ("ring", 3), ROW, PLAIN, TIGHT)
 
 
+def schedule_of(arrays, loops, outputs=(), walks=None):
+    """The schedule of a program with these parts, the sequential run if no walks are told."""
+    return Schedule(Program(arrays, loops, outputs), walks or (("forward", 1),) * len(loops))
+
+
 def deep_value(depth):
     """A value of many levels."""
     found = None

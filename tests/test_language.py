@@ -190,6 +190,25 @@ class ExpressionsTest(unittest.TestCase):
             if not isinstance(node, ast.Call) or called_name(node) == "set":
                 self.assertIn(id(node), allowed, (name, node.lineno))
 
+    def test_ranges_and_their_like_are_iterated_at_once(self):
+        takers = ("list", "tuple", "dict", "sorted", "sum", "any", "all", "enumerate", "zip", "min", "max")
+        allowed = {id(node.iter) for _, node in all_nodes((ast.For, ast.comprehension))}
+        allowed |= {id(node.args[0]) for _, node in all_nodes(ast.Call) if called_name(node) in takers}
+        allowed |= {id(right) for _, node in all_nodes(ast.Compare) for right in node.comparators}
+        for name, node in all_nodes(ast.Call):
+            views = isinstance(node.func, ast.Attribute) and node.func.attr in ("items", "keys", "values")
+            if views or called_name(node) in ("range", "zip", "enumerate", "reversed", "map"):
+                self.assertIn(id(node), allowed, (name, node.lineno))
+
+    def test_properties_and_operators_change_nothing(self):
+        for name, node in all_nodes(ast.FunctionDef):
+            operator = node.name.startswith("__") and node.name != "__init__"
+            if operator or "property" in [ast.unparse(part) for part in node.decorator_list]:
+                for part in ast.walk(node):
+                    self.assertNotIsInstance(part, (ast.AugAssign, ast.Delete), (name, node.name))
+                    self.assertFalse(isinstance(part, (ast.Attribute, ast.Subscript)) and not isinstance(part.ctx, ast.Load),
+                                     (name, node.name))
+
     def test_what_is_called(self):
         own = {node.name for _, node in all_nodes((ast.FunctionDef, ast.ClassDef))}
         for name, node in all_nodes(ast.Call):
