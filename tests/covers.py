@@ -4,8 +4,25 @@ What does not hold fails an assertion.
 """
 
 from tests.conflicts import offset_of
-from tests.spots import element_of, event_moment, writes_of
+from tests.spots import all_places, element_of, event_moment, writes_of
 from tests.walking import written_arrays
+
+
+def is_plain(thing):
+    """Whether a value has no parts but integers, strings and tuples."""
+    if isinstance(thing, tuple):
+        return all(is_plain(part) for part in thing)
+    return type(thing) in (int, str)
+
+
+def read_or_none(read, *things):
+    """What is read of any values, or None if they do not hold."""
+    if not is_plain(things):
+        return None
+    try:
+        return read(*things)
+    except (AssertionError, TypeError, ValueError, IndexError):
+        return None
 
 
 class CoverReader:
@@ -16,6 +33,7 @@ class CoverReader:
         self.outputs = program.outputs
         self.inputs = set(self.sizes) - written_arrays(program.loops)
         self.walks = schedule.walks
+        self.counts = {place: count for place, count, _, _, _ in all_places(program.loops)}
         self.one, self.other = one, other
         self.layouts = {one: layout, other: other_layout}
 
@@ -26,7 +44,7 @@ class CoverReader:
             assert 0 <= number < self.sizes[place], (place, number)
             return place, number
         assert len(place) == (2 if kind == "write" else 3), place
-        assert 0 <= number < self.loops[place[0]][0], (place, number)
+        assert place in self.counts and 0 <= number < self.counts[place], (place, number)
         return element_of(self.loops, place, number)
 
     def write_of(self, element):
@@ -79,11 +97,12 @@ class CoverReader:
                         assert change % lanes == 0 and change_of_other % lanes == 0, changes
 
     def cover(self, low, high, modulus, rest, families):
+        """Return True if it is a cover."""
         assert isinstance(families, tuple)
         first, last = low + (rest - low) % modulus, high - (high - rest) % modulus
         if first > last:
             assert families == ()
-            return
+            return True
         assert families
         reach = None
         for family in families:
@@ -94,6 +113,13 @@ class CoverReader:
             assert least <= (first if reach is None else reach + modulus), families
             reach = most if reach is None else max(reach, most)
         assert reach >= last, families
+        return True
+
+    def is_family(self, thing):
+        return read_or_none(self.family, thing) is not None
+
+    def is_cover(self, low, high, modulus, rest, thing):
+        return read_or_none(self.cover, low, high, modulus, rest, thing) is not None
 
     def parted(self, distances, low, high):
         """What is parted from low to high, its covers and its ends held; all that is told to be good is left to others."""

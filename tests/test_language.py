@@ -222,6 +222,29 @@ class ExpressionsTest(unittest.TestCase):
             if called_name(node) in BUILTINS:
                 self.assertLessEqual(told, KEYWORDS.get(called_name(node), set()), name)
 
+    def test_reversed_takes_lists(self):
+        for name, node in all_nodes(ast.Call):
+            if called_name(node) == "reversed":
+                self.assertIn(called_name(node.args[0]), ("list", "tuple", "sorted", "range"), (name, node.lineno))
+
+    def test_stars_stand_before_names(self):
+        """Behind a star in a call stand names, attributes and literals, and only own functions and a few others take one."""
+        own = {node.name for _, node in all_nodes((ast.FunctionDef, ast.ClassDef))}
+        for name, node in all_nodes(ast.Call):
+            for argument in node.args:
+                if isinstance(argument, ast.Starred):
+                    self.assertIsInstance(argument.value, (ast.Name, ast.Attribute, ast.List, ast.Tuple), (name, node.lineno))
+                    self.assertIn(called_name(node), own | {"cls", "max", "min", "zip"}, (name, node.lineno))
+
+    def test_lists_are_not_sorted_in_place(self):
+        for name, node in all_nodes(ast.Attribute):
+            self.assertNotEqual(node.attr, "sort", name)
+
+    def test_init_has_no_return(self):
+        for name, node in all_nodes(ast.FunctionDef):
+            if node.name == "__init__":
+                self.assertFalse([part for part in ast.walk(node) if isinstance(part, ast.Return)], name)
+
     def test_generators_are_iterated_at_once(self):
         made = {node.name for _, node in all_nodes(ast.FunctionDef)
                 if any(isinstance(part, (ast.Yield, ast.YieldFrom)) for part in ast.walk(node))}
@@ -238,6 +261,26 @@ class ClassesTest(unittest.TestCase):
             for decorator in node.decorator_list:
                 self.assertIn(ast.unparse(decorator).partition(".")[2] or ast.unparse(decorator),
                               ("property", "classmethod", "staticmethod", "setter"), name)
+
+    def test_names_of_methods(self):
+        """No name is a method and an attribute in one class; those of properties and class methods are of their own."""
+        plain, decorated, stored = set(), set(), set()
+        for name, node in all_nodes(ast.ClassDef):
+            methods = [part for part in node.body if isinstance(part, ast.FunctionDef)]
+            self.assertEqual(len({part.name for part in methods}), len(methods), (name, node.name))
+            plain |= {part.name for part in methods if not part.decorator_list}
+            decorated |= {part.name for part in methods if part.decorator_list}
+            mine = {part.attr for part in ast.walk(node) if isinstance(part, ast.Attribute) and isinstance(part.ctx, ast.Store)}
+            self.assertFalse(mine & {part.name for part in methods}, (name, node.name))
+            stored |= mine
+        self.assertFalse(decorated & (plain | stored))
+
+    def test_names_of_generators(self):
+        made = {node.name for _, node in all_nodes(ast.FunctionDef)
+                if any(isinstance(part, (ast.Yield, ast.YieldFrom)) for part in ast.walk(node))}
+        names = [node.name for _, node in all_nodes(ast.FunctionDef)]
+        for name in made:
+            self.assertEqual(names.count(name), 1, name)
 
     def test_errors_that_are_caught(self):
         own = {node.name for name, node in all_nodes(ast.ClassDef) if name == "errors"}
