@@ -6,7 +6,7 @@ from leastlap.narrowing import Narrowing
 from leastlap.parts import cover_of, strands_of
 from leastlap.plans import BAD, GOING_ON, NEXT, apart_from
 from leastlap.ranges import with_left
-from leastlap.rounds import bounds_of, broken_round, closed, is_broken, uneven_round
+from leastlap.rounds import bounds_of, broken_round, closed, is_broken, short_round, uneven_round
 
 
 class Proof:
@@ -17,7 +17,7 @@ class Proof:
         self.pairs = pairs
 
 
-def sides_of(path):
+def pairs_of(path):
     """The pairs of a round, as the keys of a dict."""
     return {(min(path[at - 1], other), max(path[at - 1], other)): True for at, other in enumerate(path)}
 
@@ -63,10 +63,12 @@ class Prover:
                 return Proof(("none", names[one], names[other]), {(one, other): True})
         bounds = bounds_of(lefts, self.problem.many)
         if is_broken(closed(bounds)):
-            path = broken_round(bounds)
-            return Proof(("round", tuple([names[at] for at in path])), sides_of(path))
-        path = uneven_round(lefts, self.problem.many)
-        return Proof(("residues", tuple([names[at] for at in path])), sides_of(path))
+            return self.closing("round", broken_round(bounds))
+        return self.closing("residues", uneven_round(lefts, self.problem.many))
+
+    def closing(self, kind, path):
+        """The proof by a round of arrays that cannot go together."""
+        return Proof((kind, tuple([self.problem.names[at] for at in path])), pairs_of(path))
 
     def parted(self, lefts, pair, plan, following):
         """The proof in which a pair is parted by a plan, or one in which nothing that is told of the pair is used."""
@@ -93,9 +95,13 @@ class Prover:
 
     def below(self, lefts, pair, kind):
         """The proof for a part that is parted again, or in which more has to be told."""
-        if kind == GOING_ON or lefts[pair].is_empty():
-            return self.proof(lefts)
-        return self.parted(lefts, pair, kind, None)
+        if lefts[pair].is_empty():
+            return self.leaf(lefts)
+        if kind != GOING_ON:
+            return self.parted(lefts, pair, kind, None)
+        # Most parts end here, and a full narrowing would take its time to find it.
+        found = short_round(lefts, pair, self.problem.many)
+        return self.proof(lefts) if found is None else self.closing(found[0], found[1])
 
     def cover(self, pair, low, high, rest):
         """The cover of the distances of a pair with a residue by the modulus of the bad ones, which all of them are."""

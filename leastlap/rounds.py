@@ -55,9 +55,13 @@ def broken_round(bounds):
     return found[::-1]
 
 
-def is_uneven(lefts, path):
+def sides_of(lefts, path):
+    """What is left of the distances from each array of a round to the next one, that from the last one first."""
+    return [side_of(lefts, path[at - 1], other) for at, other in enumerate(path)]
+
+
+def is_uneven(sides):
     """Whether the residues from each array of a round to the next one cannot add up to 0."""
-    sides = [side_of(lefts, path[at - 1], other) for at, other in enumerate(path)]
     common = 0
     for side in sides:
         common = gcd(common, side.modulus)
@@ -69,7 +73,24 @@ def uneven_round(lefts, many):
     paths = [[at] for at in range(many)]
     while paths:
         for path in paths:
-            if len(path) > 2 and is_uneven(lefts, path):
+            if len(path) > 2 and is_uneven(sides_of(lefts, path)):
                 return path
         paths = [path + [at] for path in paths for at in range(path[0] + 1, many) if at not in path]
+    return None
+
+
+def short_round(lefts, pair, many):
+    """A round of a pair and a third array that cannot go together, as (kind, arrays), or None.
+
+    Something is left of each distance.
+    """
+    for third in [at for at in range(many) if at not in pair]:
+        path = [pair[0], pair[1], third]
+        sides = sides_of(lefts, path)
+        if sum([side.high for side in sides]) < 0:
+            return "round", path
+        if sum([side.low for side in sides]) > 0:
+            return "round", path[::-1]
+        if is_uneven(sides):
+            return "residues", path
     return None

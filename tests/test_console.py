@@ -176,7 +176,8 @@ class RefusedTest(Case):
                     "lanes", "lanes ", "lanes 0 1", "distance", "distance A", "distance A B C", "distance A  B", "loop", "loop 0",
                     "loop 0 forward", "loop 0 forward 1 1", "loop  0 forward 1", "place", "place A", "place A 0",
                     "place A 0 up up", "place  A 0 up", "place A 0 ring", "place A 0 ring 1 1", "place A 0 ring  1",
-                    "place A 0 up ", "quit", "help")
+                    "place A 0 up ", "quit", "help", "show A 0 up", "size A 0 up", "rings A 0 up", "distance A 0 up",
+                    "Place A 0 up", "A 0 up", "lanes A 0 ring 1", " A 0 up")
 
     def test_numbers(self):
         console = self.console()

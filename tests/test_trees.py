@@ -235,6 +235,9 @@ class FullTest(Case):
         self.holds(PLAIN, UPS, 30, ("parts",) + ("A", "B") + tree[3:], False, told)
         self.holds(PLAIN, UPS, 30, ("none", "A", "B"), False, told)
         self.holds(PLAIN, UPS, 30, ("none", "B", "C"), False, told)
+        # Neither of two arrays may be full, whichever comes first.
+        self.holds(PLAIN, UPS, 30, ("none", "A", "B"), False, (("B", 25),))
+        self.holds(PLAIN, UPS, 30, ("full", "B"), True, (("B", 25),))
 
 
 class NoneTest(Case):
@@ -330,7 +333,8 @@ class ResiduesTest(Case):
         for names in (("A", "B"), ("A", "B", "D"), ("A", "B", "C", "D"), ("A",), (), ("A", "B", "C", "B"), ["A", "B", "C"],
                       "ABC", None):
             self.holds(EVEN, EVEN_UPS, 4, even_tree(("residues", names)), False)
-        self.holds(EVEN, EVEN_UPS, 4, even_tree(("round", ("A", "B", "C"))), False)
+        for kind in ("round", "residue", "full", "none", "", None, 2):
+            self.holds(EVEN, EVEN_UPS, 4, even_tree((kind, ("A", "B", "C"))), False)
         self.assertGreater(self.least(EVEN, EVEN_UPS), 4)
 
     def test_moduli(self):
@@ -370,6 +374,7 @@ class PartsTest(Case):
         self.holds(THREE_OF_FOUR, UPS, 11, ELEVEN + ((),), False)
         self.holds(THREE_OF_FOUR, UPS, 11, ELEVEN[:4], False)
         self.holds(THREE_OF_FOUR, UPS, 11, ("part",) + ELEVEN[1:], False)
+        self.holds(THREE_OF_FOUR, UPS, 11, ELEVEN[:3] + (0, ()), False)
         for rows in ((), ((),), ELEVEN[4] * 2, list(ELEVEN[4]), (list(ELEVEN[4][0]),), (None,), None, ELEVEN[4][0]):
             self.holds(THREE_OF_FOUR, UPS, 11, replaced(ELEVEN, (4,), rows), False)
 
@@ -398,6 +403,10 @@ class PartsTest(Case):
         self.holds(THREE_OF_FOUR, UPS, 11, self.row((-9, -8, none), low, middle, high, (8, 8, none), (9, 99, none)), True)
         self.holds(THREE_OF_FOUR, UPS, 11, self.row((-9, -8, low[2]), low, middle, high), False)
         self.holds(THREE_OF_FOUR, UPS, 11, self.row((-9, -8, ("cover", ())), low, middle, high), False)
+        # Such a part is not parted again, although all rows would be empty.
+        for modulus in (1, 2):
+            again = ("parts", "A", "B", modulus, ((),) * modulus)
+            self.holds(THREE_OF_FOUR, UPS, 11, self.row((-9, -8, again), low, middle, high), False)
 
     def test_covers(self):
         low, middle, high = ELEVEN[4][0]
